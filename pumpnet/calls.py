@@ -1,0 +1,211 @@
+"""What each call does to a plant, and what it answers.
+
+Each def below takes the plant and the call's numbers behind its place, and gives back the list of numbers answered.
+"""
+
+MOST_NODES = 24
+MOST_PIPES = 48
+MOST_VALVES = 48
+MOST_FORBIDDEN = 24
+MOST_PUMPS = 8
+MOST_CLOCK = 20000
+
+OUT_OF_RANGE = -1
+FULL = -2
+SAME_NODE = -3
+WOULD_JOIN = -5
+ARE_JOINED = -6
+HAS_FAULT = -7
+TOO_LATE = -8
+NOT_TOLD = -100
+
+# den, stroke, slope, per, tol: the least and the most of each.
+PUMP_RANGES = ((1, 1000000), (1, 1000000), (1, 1000000), (1, 64), (0, 1000))
+
+
+def has_both(plant, a, b):
+    return plant.net.has_node(a) and plant.net.has_node(b)
+
+
+# Pipes, valves and pumps share these refusals and their order; 0 is none of them.
+def new_link_refusal(plant, a, b, there, most):
+    if not has_both(plant, a, b):
+        return OUT_OF_RANGE
+    if a == b:
+        return SAME_NODE
+    if there >= most:
+        return FULL
+    return 0
+
+
+def node(plant, given):
+    flags = given[0]
+    there = len(plant.net.flags)
+    if not 0 <= flags <= 3:
+        return [OUT_OF_RANGE]
+    if there >= MOST_NODES:
+        return [FULL]
+    plant.net.flags.append(flags)
+    return [there]
+
+
+def pipe(plant, given):
+    a = given[0]
+    b = given[1]
+    there = len(plant.net.pipes)
+    refusal = new_link_refusal(plant, a, b, there, MOST_PIPES)
+    if refusal != 0:
+        return [refusal]
+    if len(plant.net.pairs_joined_by(a, b)) > 0:
+        return [WOULD_JOIN]
+    plant.net.pipes.append((a, b))
+    return [there]
+
+
+def valve(plant, given):
+    a = given[0]
+    b = given[1]
+    travel = given[2]
+    there = len(plant.net.valves)
+    if not 0 <= travel <= 60:
+        return [OUT_OF_RANGE]
+    refusal = new_link_refusal(plant, a, b, there, MOST_VALVES)
+    if refusal != 0:
+        return [refusal]
+    plant.net.add_valve(a, b, travel)
+    return [there]
+
+
+def forbid(plant, given):
+    a = given[0]
+    b = given[1]
+    if not has_both(plant, a, b):
+        return [OUT_OF_RANGE]
+    if a == b:
+        return [SAME_NODE]
+    if plant.net.forbidden_as(a, b) is not None:
+        return [0]
+    if len(plant.net.forbidden) >= MOST_FORBIDDEN:
+        return [FULL]
+    if plant.net.are_joined(a, b):
+        return [ARE_JOINED]
+    plant.net.forbidden.append((a, b))
+    return [1]
+
+
+def allow(plant, given):
+    a = given[0]
+    b = given[1]
+    if not has_both(plant, a, b):
+        return [OUT_OF_RANGE]
+    pair = plant.net.forbidden_as(a, b)
+    if pair is None:
+        return [0]
+    plant.net.forbidden.remove(pair)
+    return [1]
+
+
+def pump(plant, given):
+    a = given[0]
+    b = given[1]
+    sizes = given[2:]
+    there = len(plant.pumps)
+    for size, ends in zip(sizes, PUMP_RANGES):
+        if not ends[0] <= size <= ends[1]:
+            return [OUT_OF_RANGE]
+    refusal = new_link_refusal(plant, a, b, there, MOST_PUMPS)
+    if refusal != 0:
+        return [refusal]
+    plant.add_pump(a, b, sizes)
+    return [there]
+
+
+def open_valve(plant, given):
+    v = given[0]
+    if not plant.net.has_valve(v):
+        return [OUT_OF_RANGE]
+    told = plant.net.valves[v]
+    if told.up:
+        return [0]
+    if len(plant.net.pairs_joined_by(told.a, told.b)) > 0:
+        return [WOULD_JOIN]
+    told.up = True
+    return [1]
+
+
+def shut_valve(plant, given):
+    v = given[0]
+    if not plant.net.has_valve(v):
+        return [OUT_OF_RANGE]
+    told = plant.net.valves[v]
+    if not told.up:
+        return [0]
+    told.up = False
+    return [1]
+
+
+def shut_all(plant, given):
+    were_up = [each for each in plant.net.valves if each.up]
+    for each in were_up:
+        each.up = False
+    return [len(were_up)]
+
+
+def run(plant, given):
+    p = given[0]
+    target = given[1]
+    if not plant.has_pump(p):
+        return [OUT_OF_RANGE]
+    told = plant.pumps[p]
+    if abs(target) > told.den:
+        return [OUT_OF_RANGE]
+    if told.fault != 0:
+        return [HAS_FAULT]
+    told.target = target
+    return [1]
+
+
+def tick(plant, given):
+    ticks = given[0]
+    if not 1 <= ticks <= 200:
+        return [OUT_OF_RANGE]
+    if plant.clock + ticks > MOST_CLOCK:
+        return [TOO_LATE]
+    before = plant.faults()
+    plant.go_on(ticks)
+    return [plant.faults() - before]
+
+
+def pulses(plant, given):
+    p = given[0]
+    seen = given[1]
+    if not plant.has_pump(p) or not 0 <= seen <= 1000000:
+        return [OUT_OF_RANGE]
+    told = plant.pumps[p]
+    expected = told.take_pulses(seen)
+    return [expected, told.fault]
+
+
+def clear_pump(plant, given):
+    p = given[0]
+    if not plant.has_pump(p):
+        return [OUT_OF_RANGE]
+    told = plant.pumps[p]
+    if told.fault == 0:
+        return [0]
+    told.clear_fault()
+    return [1]
+
+
+# A call's place is its index here.
+CALLS = (
+    node, pipe, valve, forbid, allow, pump, open_valve, shut_valve, shut_all, run, tick, pulses, clear_pump,
+)
+
+
+def answer(plant, place, given):
+    # The desk reads calls that are not written yet, so that those around them are still answered.
+    if place >= len(CALLS):
+        return [NOT_TOLD]
+    call = CALLS[place]
+    return call(plant, given)
