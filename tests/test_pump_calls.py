@@ -240,6 +240,13 @@ class FaultTest(unittest.TestCase):
         rows += [(pulses(0, 0), [3, 0]), (pulses(0, 5), [0, 2]), (tick(50), 0), (pulses(0, 9), [0, 2])]
         check(self, rows)
 
+    def test_with_a_fault_not_even_a_target_moves_it(self):
+        faulty = Pump(0, 1, 10, 1, 100, 1, 0)
+        faulty.fail(1)
+        faulty.target = 10
+        faulty.tick(Flow([0, 1], [3, 3]))
+        self.assertEqual((faulty.speed, faulty.gathered, faulty.position, faulty.moved), (0, 0, 0, 0))
+
     def test_each_pump_by_itself(self):
         rows = nodes(1, 2) + [(pump(0, 1), 0), (pump(1, 0), 1), (run(0, 10), 1), (run(1, 10), 1), (tick(3), 1)]
         check(self, rows + [(pulses(0, 3), [3, 0]), (pulses(1, 0), [0, 1])])
@@ -273,6 +280,14 @@ class PulsesTest(unittest.TestCase):
     def test_good_between_takes_bad_back(self):
         rows = ready() + [(pulses(0, 1), [0, 0]), (pulses(0, 0), [0, 0])] * 3
         check(self, rows + [(pulses(0, 1), [0, 0]), (pulses(0, 1), [0, 2])])
+
+    def test_bad_goes_from_0_to_1_to_2(self):
+        slipping = Pump(0, 1, 10, 1, 1, 1, 0)
+        seen = []
+        for k in (1, 0, 1, 1):
+            slipping.take_pulses(k)
+            seen.append((slipping.bad, slipping.fault))
+        self.assertEqual(seen, [(1, 0), (0, 0), (1, 0), (2, 2)])
 
     def test_just_tol_away_is_good_and_one_more_is_bad(self):
         for k, fault in ((7, 0), (13, 0), (6, 2), (14, 2)):
@@ -326,6 +341,12 @@ class ClearTest(unittest.TestCase):
         rows += [(clear(0), 1), (tick(9), 0), (pulses(0, 0), [0, 0]), (run(0, 10), 1)]
         # And the ramp begins at 0: speeds 2, 4, 6.
         check(self, rows + [(tick(2), 0), (pulses(0, 0), [0, 0]), (tick(), 0), (pulses(0, 1), [1, 0])])
+
+    def test_the_ramp_begins_at_0_at_once(self):
+        rows = ready(den=9, slope=1) + [(pulses(0, 1), [0, 0]), (pulses(0, 1), [0, 2]), (clear(0), 1)]
+        # Speeds 1, 2, 3, 4: gathered 1, 3, 6, 10.
+        rows += [(run(0, 9), 1), (tick(3), 0), (pulses(0, 0), [0, 0])]
+        check(self, rows + [(tick(), 0), (pulses(0, 1), [1, 0])])
 
     def test_moved_and_gathered_stay(self):
         rows = ready(per=2) + [(run(0, 9), 1), (tick(4), 0), (pulses(0, 5), [1, 0]), (pulses(0, 5), [0, 2])]
