@@ -9,6 +9,7 @@ MOST_VALVES = 48
 MOST_FORBIDDEN = 24
 MOST_PUMPS = 8
 MOST_CLOCK = 20000
+MOST_AHEAD = 10000
 
 OUT_OF_RANGE = -1
 FULL = -2
@@ -17,10 +18,24 @@ WOULD_JOIN = -5
 ARE_JOINED = -6
 HAS_FAULT = -7
 TOO_LATE = -8
-NOT_TOLD = -100
+NO_WAY = -9
 
 # den, stroke, slope, per, tol: the least and the most of each.
 PUMP_RANGES = ((1, 1000000), (1, 1000000), (1, 1000000), (1, 64), (0, 1000))
+
+# Which coils are on at each of eight positions in a row.
+COILS = (1, 3, 2, 6, 4, 12, 8, 9)
+
+
+def with_count(numbers):
+    return [len(numbers)] + numbers
+
+
+def with_count_of_pairs(pairs):
+    told = [len(pairs)]
+    for pair in pairs:
+        told.extend(pair)
+    return told
 
 
 def has_both(plant, a, b):
@@ -197,15 +212,101 @@ def clear_pump(plant, given):
     return [1]
 
 
+def joined(plant, given):
+    a = given[0]
+    b = given[1]
+    if not has_both(plant, a, b):
+        return [OUT_OF_RANGE]
+    return [1 if plant.net.are_joined(a, b) else 0]
+
+
+def islands(plant, given):
+    return with_count(plant.net.islands())
+
+
+def way(plant, given):
+    a = given[0]
+    b = given[1]
+    if not has_both(plant, a, b):
+        return [OUT_OF_RANGE]
+    numbers = plant.net.way(a, b)
+    if numbers is None:
+        return [NO_WAY]
+    return with_count(numbers)
+
+
+def would(plant, given):
+    v = given[0]
+    if not plant.net.has_valve(v):
+        return [OUT_OF_RANGE]
+    told = plant.net.valves[v]
+    return with_count_of_pairs(plant.net.pairs_joined_by(told.a, told.b))
+
+
+def bridges(plant, given):
+    return with_count(plant.net.bridges())
+
+
+def valve_state(plant, given):
+    v = given[0]
+    if not plant.net.has_valve(v):
+        return [OUT_OF_RANGE]
+    told = plant.net.valves[v]
+    counts = 1 if told.counts_as_open() else 0
+    up = 1 if told.up else 0
+    return [counts, up, told.place, told.travel, told.a, told.b]
+
+
+def pump_state(plant, given):
+    p = given[0]
+    if not plant.has_pump(p):
+        return [OUT_OF_RANGE]
+    told = plant.pumps[p]
+    return [told.fault, told.target, told.speed, told.gathered, told.position, told.moved, told.bad]
+
+
+def ahead(plant, given):
+    p = given[0]
+    ticks = given[1]
+    if not plant.has_pump(p) or not 0 <= ticks <= MOST_AHEAD:
+        return [OUT_OF_RANGE]
+    # The 0 keeps a change below 0 from looking like a refusal.
+    return [0, plant.pumps[p].ahead(ticks)]
+
+
+def coils(plant, given):
+    p = given[0]
+    if not plant.has_pump(p):
+        return [OUT_OF_RANGE]
+    return [COILS[plant.pumps[p].position % len(COILS)]]
+
+
+def ledger(plant, given):
+    return with_count(plant.ledger())
+
+
+def stop_all(plant, given):
+    driven = [each for each in plant.pumps if each.target != 0]
+    for each in driven:
+        each.target = 0
+    return [len(driven)]
+
+
+def tell_time(plant, given):
+    return [plant.clock]
+
+
+def forbidden(plant, given):
+    return with_count_of_pairs(plant.net.forbidden)
+
+
 # A call's place is its index here.
 CALLS = (
     node, pipe, valve, forbid, allow, pump, open_valve, shut_valve, shut_all, run, tick, pulses, clear_pump,
+    joined, islands, way, would, bridges, valve_state, pump_state, ahead, coils, ledger, stop_all, tell_time, forbidden,
 )
 
 
 def answer(plant, place, given):
-    # The desk reads calls that are not written yet, so that those around them are still answered.
-    if place >= len(CALLS):
-        return [NOT_TOLD]
     call = CALLS[place]
     return call(plant, given)

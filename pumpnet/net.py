@@ -1,6 +1,7 @@
 """The net: nodes, pipes, valves, forbidden pairs, and which nodes are joined."""
 
 from pumpnet.valve import Valve
+from pumpnet.ways import least_way
 
 SOURCE = 1
 END = 2
@@ -66,6 +67,27 @@ class Net:
     def pairs_joined_by(self, a, b):
         least = least_joined(len(self.flags), self.links() + [(a, b)])
         return [pair for pair in self.forbidden if least[pair[0]] == least[pair[1]]]
+
+    # The numbers of the valves that the least shortest way goes through, or None where there is no way.
+    def way(self, a, b):
+        place = least_joined(len(self.flags), self.pipes)
+        doors = []
+        for v, valve in enumerate(self.valves):
+            if valve.counts_as_open():
+                doors.append((v, place[valve.a], place[valve.b]))
+        return least_way(doors, place[a], place[b])
+
+    def is_bridge(self, valve):
+        if not valve.counts_as_open():
+            return False
+        # A pipe or another valve may be the same link: which of them is left out makes no difference.
+        links = self.links()
+        links.remove((valve.a, valve.b))
+        least = least_joined(len(self.flags), links)
+        return least[valve.a] != least[valve.b]
+
+    def bridges(self):
+        return [v for v, valve in enumerate(self.valves) if self.is_bridge(valve)]
 
     # The pair as it was forbidden, either way round, or None.
     def forbidden_as(self, a, b):

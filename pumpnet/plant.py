@@ -19,6 +19,14 @@ class Plant:
     def faults(self):
         return len([pump for pump in self.pumps if pump.fault != 0])
 
+    # For each node what pumps brought into it less what they took out.
+    def ledger(self):
+        sums = [0] * len(self.net.flags)
+        for pump in self.pumps:
+            sums[pump.a] -= pump.position * pump.stroke
+            sums[pump.b] += pump.position * pump.stroke
+        return sums
+
     def go_on(self, ticks):
         # Within these ticks a valve can only cease to count as open, so the flow is found anew just then.
         flow = self.net.flow()

@@ -51,15 +51,30 @@ class Pump:
         self.position += direction
         self.moved += 1
 
+    def go_at(self, speed):
+        self.speed = speed
+        self.gather()
+
     def tick(self, flow):
         if self.fault != 0:
             return
         speed = self.next_speed()
         if self.can_go(speed, flow):
-            self.speed = speed
-            self.gather()
+            self.go_at(speed)
         else:
             self.fail(NOTHING_FLOWS)
+
+    # By how much the position would change if fluid could flow; tried out on another pump, so that this one stays.
+    def ahead(self, ticks):
+        if self.fault != 0:
+            return 0
+        trial = Pump(self.a, self.b, self.den, self.stroke, self.slope, self.per, self.tol)
+        trial.target = self.target
+        trial.speed = self.speed
+        trial.gathered = self.gathered
+        for k in range(ticks):
+            trial.go_at(trial.next_speed())
+        return trial.position
 
     # Answers how many pulses were expected.
     def take_pulses(self, seen):

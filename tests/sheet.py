@@ -55,6 +55,58 @@ def clear(p):
     return [12, p]
 
 
+def joined(a, b):
+    return [13, a, b]
+
+
+def islands():
+    return [14]
+
+
+def way(a, b):
+    return [15, a, b]
+
+
+def would(v):
+    return [16, v]
+
+
+def bridges():
+    return [17]
+
+
+def valve_state(v):
+    return [18, v]
+
+
+def pump_state(p):
+    return [19, p]
+
+
+def ahead(p, n):
+    return [20, p, n]
+
+
+def coils(p):
+    return [21, p]
+
+
+def ledger():
+    return [22]
+
+
+def stop_all():
+    return [23]
+
+
+def tell_time():
+    return [24]
+
+
+def forbidden():
+    return [25]
+
+
 def nodes(*flags):
     return [(node(flag), k) for k, flag in enumerate(flags)]
 
